@@ -1,0 +1,1 @@
+"""Countermarch: differentiating programs backward."""
