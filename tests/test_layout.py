@@ -15,6 +15,9 @@ INTERFACE = {
         " ScheduleError PaperError CommandError"
     ),
     "field": "reduce_number inverse combine combine_duals shares dot basis",
+    "words": "read_program write_program split_words",
+    "checking": "check cells layout variables_at",
+    "plain": "run_beat run dual_run",
 }
 
 

@@ -1,0 +1,29 @@
+"""Single values: which of them are integers, and which are names."""
+
+LETTERS = "abcdefghijklmnopqrstuvwxyz"
+LETTERS_AND_DIGITS = "abcdefghijklmnopqrstuvwxyz0123456789"
+LONGEST_NAME = 8
+RESERVED = (
+    "state", "param", "procedure", "beat", "set", "loop", "if", "call", "let", "at",
+    "add", "sub", "mul", "div", "plus", "minus", "times", "rem",
+    "less", "equal", "zero", "not",
+)
+
+
+def is_integer(value):
+    """Tell whether a value is an integer; a boolean is none."""
+    return isinstance(value, int) and not isinstance(value, bool)
+
+
+def is_between(value, least, most):
+    """Tell whether a value is an integer from the least to the most."""
+    return is_integer(value) and least <= value <= most
+
+
+def is_name(value):
+    """Tell whether a value is a name of programs."""
+    if not isinstance(value, str) or not 1 <= len(value) <= LONGEST_NAME:
+        return False
+    if value[0] not in LETTERS or value in RESERVED:
+        return False
+    return all([character in LETTERS_AND_DIGITS for character in value])
