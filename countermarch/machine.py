@@ -5,6 +5,9 @@ from countermarch.errors import FieldError
 from countermarch.field import combine, combine_duals
 from countermarch.limits import MAX_CALLS, MAX_FUEL, MAX_INTEGER
 
+# The turns of the operands that are no operations; only tape programs have bars.
+TURNS = {"bar": 0, "number": 2, "place": 2}
+
 
 class Fault(Exception):
     """The end of a run at something that a program must not do; it stays inside of the package."""
@@ -70,8 +73,13 @@ class Machine:
                 self.execute(first if self.holds(test, frame) else second, frame)
             elif head == "call":
                 self.execute_call(statement, frame)
-            else:
+            elif head == "let":
                 self.execute_let(statement, frame)
+            else:
+                self.execute_tape_statement(statement, frame)
+
+    def execute_tape_statement(self, statement, frame):
+        """Execute a statement that only tape programs have: a machine for these does."""
 
     def execute_set(self, statement, frame):
         """Assign a number to a cell."""
@@ -111,8 +119,16 @@ class Machine:
         number = self.evaluate(expression, frame)
         self.assignments += 1
         frame.variables[name] = (len(self.memory), 0)
-        self.memory.append(number)
+        self.add_cell(number)
         self.execute(body, frame)
+        self.drop_cell()
+
+    def add_cell(self, number):
+        """Make a new cell, which holds this number."""
+        self.memory.append(number)
+
+    def drop_cell(self):
+        """Drop the last cell."""
         self.memory.pop()
 
     def spend_tick(self):
@@ -175,8 +191,8 @@ class Machine:
         return result
 
     def evaluate_operands(self, left, right, frame):
-        """Return the numbers of two operands; those that are operations come first."""
-        if is_operation(right) and not is_operation(left):
+        """Return the numbers of two operands, in the order of their turns."""
+        if turn_of(right) < turn_of(left):
             second = self.evaluate(right, frame)
             return self.evaluate(left, frame), second
         first = self.evaluate(left, frame)
@@ -211,9 +227,9 @@ class DualMachine(Machine):
         return number[0] == 0
 
 
-def is_operation(expression):
-    """Tell whether an expression is an operation."""
-    return expression[0] not in ("number", "place")
+def turn_of(operand):
+    """Return at which turn an operand is evaluated: bars first, operations next, then all else."""
+    return TURNS.get(operand[0], 1)
 
 
 def combine_integers(op, left, right):

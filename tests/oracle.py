@@ -156,3 +156,96 @@ def oracle_run(tree, params, state, param_slopes, slopes, beats, fuel=300):
         if fault is not None:
             return (fault, beat), (), ()
     return None, row_of(tree, variables, 0), row_of(tree, variables, 1)
+
+
+class TapeOracle(Oracle):
+    """A second meaning of tape programs: each cell is a list [value, bar]."""
+
+    def __init__(self, program, fuel, tape):
+        super().__init__(program, fuel)
+        self.tape = list(tape)
+
+    def number(self, expression, variables, integers):
+        if expression[0] == "number":
+            return expression[1]
+        if expression[0] in ("place", "bar"):
+            return self.cell(variables, integers, *expression[1:])[expression[0] == "bar"]
+        parts = expression[1:]
+        order = {"bar": 0, "number": 2, "place": 2}
+        found = {k: self.number(parts[k], variables, integers) for k in sorted(range(2), key=lambda k: order.get(parts[k][0], 1))}
+        number = self.operation(expression[0], found[0], 0, found[1], 0)[0]
+        self.operations += 1
+        return number
+
+    def test(self, test, variables, integers):
+        if test[0] == "zero":
+            return self.number(test[1], variables, integers) == 0
+        return super().test(test, variables, integers)
+
+    def changed(self, variables, integers, place):
+        """The cell of a place, and which of its two items the place means."""
+        if len(place) == 3:
+            return self.cell(variables, integers, *place[1:]), 1
+        return self.cell(variables, integers, *place), 0
+
+    def taken(self):
+        if self.tape == []:
+            raise Stop("tape")
+        return self.tape.pop()
+
+    def set_statement(self, variables, integers, place, expression):
+        number = self.number(expression, variables, integers)
+        cell, item = self.changed(variables, integers, place)
+        if item == 0:
+            self.tick()
+        cell[item] = number
+
+    def let_statement(self, variables, integers, name, expression, body):
+        number = self.number(expression, variables, integers)
+        self.body(body, {**variables, name: [[number, 0]]}, integers)
+
+    def push_statement(self, variables, integers, expression):
+        self.tape += [self.number(expression, variables, integers)]
+
+    def pop_statement(self, variables, integers, place):
+        cell, item = self.changed(variables, integers, place)
+        cell[item] = self.taken()
+
+    def mark_statement(self, variables, integers, test):
+        self.tape += [int(self.test(test, variables, integers))]
+
+    def ifmark_statement(self, variables, integers, first, second):
+        self.body(second if self.taken() == 0 else first, variables, integers)
+
+    def down_statement(self, variables, integers, name, index, body):
+        k = self.integer(index, integers)
+        while k > 0:
+            k -= 1
+            self.tick()
+            self.body(body, variables, {**integers, name: k})
+
+
+def sweep(program, body, params, state, tape, bars, beat, fuel):
+    """Execute a body of a tape program; return the fault, the oracle and the variables."""
+    variables = variables_of(program, params, state, [0] * len(params), bars)
+    oracle = TapeOracle(program[:3] + (body,), fuel, [number % PRIME for number in tape])
+    return oracle.run_beat(variables, beat), oracle, variables
+
+
+def oracle_forward(program, params, state, beat, fuel=300):
+    """What forward returns for the tree of this tape program."""
+    fault, oracle, variables = sweep(program, program[3], params, state, (), [0] * len(state), beat, fuel)
+    counts = oracle.operations, oracle.ticks
+    return (fault, (), ()) + counts if fault else (None, row_of(program, variables, 0), tuple(oracle.tape)) + counts
+
+
+def oracle_reverse(program, params, state, tape, bars, beat, fuel=300):
+    """What reverse returns for the tree of this tape program."""
+    fault, oracle, variables = sweep(program, program[4], params, state, tape, bars, beat, fuel)
+    counts = oracle.operations, oracle.ticks
+    if fault is None and oracle.tape:
+        fault = "tape"
+    if fault:
+        return (fault, (), (), ()) + counts
+    param_bars = tuple(cell[1] for name, _ in program[1] for cell in variables[name])
+    return (None, row_of(program, variables, 0), row_of(program, variables, 1), param_bars) + counts

@@ -18,6 +18,9 @@ INTERFACE = {
     "words": "read_program write_program split_words",
     "checking": "check cells layout variables_at",
     "plain": "run_beat run dual_run",
+    "simple": "is_simple simplify count_operations",
+    "adjoint": "transform make_adjoint contributions",
+    "sweeps": "forward reverse",
 }
 
 
