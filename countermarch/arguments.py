@@ -28,6 +28,14 @@ def read_memory(tree, params, state, params_reason="params", state_reason="state
     return read_row(state, cells(tree[0]), state_reason) + param_numbers
 
 
+def read_run(tree, params, state, weights, beats):
+    """Return the memory and the weights for a run of this many beats, from its arguments."""
+    memory = read_memory(tree, params, state)
+    numbers = read_row(weights, cells(tree[0]), "weights")
+    check_beats(beats)
+    return memory, numbers
+
+
 def check_beats(beats):
     """Refuse a number of beats that is no integer from 0 to MAX_BEATS."""
     if not is_between(beats, 0, MAX_BEATS):

@@ -6,9 +6,8 @@ of a word is a string, that of a form is the list of its parts.
 
 from countermarch.errors import TextError
 from countermarch.limits import MAX_INTEGER, MAX_SIZE, PRIME
-from countermarch.values import is_between, is_name
+from countermarch.values import is_between, is_name, is_numeral
 
-LONGEST_NUMERAL = 10
 DECLARATIONS = ("state", "param", "procedure", "beat")
 STATEMENTS = ("set", "loop", "if", "call", "let")
 EXPRESSIONS = ("at", "add", "sub", "mul", "div")
@@ -95,13 +94,6 @@ def read_numeral(part, least, most):
     if not is_numeral(word) or not is_between(int(word), least, most):
         raise TextError(at)
     return int(word)
-
-
-def is_numeral(content):
-    """Tell whether the content of a part is a numeral."""
-    if not isinstance(content, str) or not content.isdigit():
-        return False
-    return content == "0" or content[0] != "0" and len(content) <= LONGEST_NUMERAL
 
 
 def read_body(parts):

@@ -1,6 +1,6 @@
 """The names that statements see, and what statements may do with them."""
 
-from countermarch.trees import inner_bodies, parts_of
+from countermarch.trees import parts_of
 
 
 class Scope:

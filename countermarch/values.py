@@ -1,8 +1,10 @@
-"""Single values: which of them are integers, and which are names."""
+"""Single values: which of them are integers, which are names, and which are numerals."""
 
 LETTERS = "abcdefghijklmnopqrstuvwxyz"
 LETTERS_AND_DIGITS = "abcdefghijklmnopqrstuvwxyz0123456789"
+DIGITS = "0123456789"
 LONGEST_NAME = 8
+LONGEST_NUMERAL = 10
 RESERVED = (
     "state", "param", "procedure", "beat", "set", "loop", "if", "call", "let", "at",
     "add", "sub", "mul", "div", "plus", "minus", "times", "rem",
@@ -27,3 +29,12 @@ def is_name(value):
     if value[0] not in LETTERS or value in RESERVED:
         return False
     return all([character in LETTERS_AND_DIGITS for character in value])
+
+
+def is_numeral(value):
+    """Tell whether a value is a numeral: 0, or up to ten digits that do not begin with 0."""
+    if not isinstance(value, str) or not 1 <= len(value) <= LONGEST_NUMERAL:
+        return False
+    if value[0] == "0" and value != "0":
+        return False
+    return all([character in DIGITS for character in value])

@@ -2,7 +2,18 @@
 
 import random
 
-from countermarch.limits import MAX_DEPTH, MAX_NODES, PRIME
+from countermarch.checking import cells
+from countermarch.limits import MAX_BEATS, MAX_DEPTH, MAX_FUEL, MAX_NODES, PRIME
+
+FUELS = (MAX_FUEL, 300, 12, 3, 0, 40, -5, 10 ** 9)
+EVERY_SORT = (
+    "(state x) (state y) (state k1) (state v 4) (param k) (param w 2)"
+    "(procedure f (n) ((p) (q 4)) (let z (mul p k) (set (at q n) (add z (at q (minus 3 n)))) (set p (div z (at w 1)))))"
+    "(procedure g (n) ((p)) (set p (add p (at w 0))) (if (less 0 n) ((call g ((minus n 1)) (p))) ()))"
+    "(beat (loop i (plus (rem beat 3) 2) (call f (i) (x v)) (if (zero (sub (at v i) y)) ((set y (mul y y))) ((set y (add y 1)))))"
+    " (let z (add (mul x y) (div (at v 0) k)) (set (at v 3) z) (call g (2) (z)) (set x (sub z (at v 1))))"
+    " (if (not (zero 0)) () ((set k1 (mul k1 7)))))"
+)
 
 
 class Scope:
@@ -151,3 +162,10 @@ def random_row(seed, count):
     """Return a row of numbers; small numbers, 0 among them, are frequent."""
     numbers = random.Random(seed)
     return tuple(numbers.choice((0, 1, 2, numbers.randrange(PRIME))) for _ in range(count))
+
+
+def random_case(seed):
+    """A random tree with rows, a beat and fuel."""
+    tree = random_program(seed)
+    params, state = random_row(seed, cells(tree[1])), random_row(seed + 1, cells(tree[0]))
+    return tree, params, state, seed % MAX_BEATS, FUELS[seed % len(FUELS)]

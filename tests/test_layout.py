@@ -8,7 +8,7 @@ import unittest
 PACKAGE = pathlib.Path(__file__).resolve().parent.parent / "countermarch"
 LIBRARY = ("heapq", "math", "itertools", "collections")
 
-# What the interface lists for each file that exists so far.
+# What the interface lists for each file.
 INTERFACE = {
     "errors": (
         "CountermarchError FieldError TextError TreeError ArgumentError CodeError"
@@ -21,6 +21,10 @@ INTERFACE = {
     "simple": "is_simple simplify count_operations",
     "adjoint": "transform make_adjoint contributions",
     "sweeps": "forward reverse",
+    "code": "translate check_code run_forward run_reverse",
+    "schedules": "judge least plan make_table accept_table",
+    "marches": "march by_directions",
+    "system": "build slope agrees refute Session",
 }
 
 
@@ -39,6 +43,17 @@ class TestLayout(unittest.TestCase):
             for word in words.split():
                 with self.subTest(module=name, word=word):
                     self.assertEqual(getattr(module, word).__module__, module.__name__)
+
+    def test_no_two_files_import_from_each_other(self):
+        imports = {}
+        for path, tree in parsed_files():
+            modules = [node.module for node in ast.walk(tree) if isinstance(node, ast.ImportFrom)]
+            imports[f"countermarch.{path.stem}"] = [module for module in modules if module.startswith("countermarch")]
+        while imports:
+            free = [name for name, modules in imports.items() if not any(module in imports for module in modules)]
+            self.assertTrue(free, imports)
+            for name in free:
+                del imports[name]
 
     def test_only_python_files(self):
         self.assertTrue((PACKAGE / "__init__.py").is_file())

@@ -3,13 +3,13 @@
 import copy
 import unittest
 
-from countermarch.checking import cells, check
+from countermarch.checking import check
 from countermarch.errors import TreeError
 from countermarch.limits import MAX_DEPTH, MAX_NODES
 from countermarch.simple import count_operations, is_simple, simplify
 from countermarch.words import read_program
 from oracle import oracle_beat
-from programs import random_program, random_row
+from programs import random_case, random_program
 
 HEAD = "(state x) (state y) (state v 4) (param k) (param a) (param b) (param c) (param d)"
 SIMPLE_EXPRESSIONS = (
@@ -34,14 +34,6 @@ PROCEDURE_FRAMES = (
 
 def tree_of(text):
     return read_program(f"{HEAD} {text}")
-
-
-def run_cases(count):
-    """Random trees with rows of numbers and fuel for a beat."""
-    for seed in range(count):
-        tree = random_program(seed)
-        rows = random_row(seed, cells(tree[1])), random_row(seed + 1, cells(tree[0]))
-        yield tree, rows, seed % 40, (300, 300, 12, 3, 0, 40, -5, 10 ** 9)[seed % 8]
 
 
 class TestIsSimple(unittest.TestCase):
@@ -281,7 +273,7 @@ class TestMeaning(unittest.TestCase):
         return found[0]
 
     def test_random_programs(self):
-        faults = [self.assert_same(tree, *rows, beat, fuel) for tree, rows, beat, fuel in run_cases(600)]
+        faults = [self.assert_same(*random_case(seed)) for seed in range(600)]
         for fault in (None, "zero", "index", "calls", "fuel"):
             self.assertGreater(faults.count(fault), 2, fault)
 

@@ -4,7 +4,6 @@ import copy
 import unittest
 
 from countermarch.adjoint import make_adjoint
-from countermarch.checking import cells
 from countermarch.errors import ArgumentError, TreeError
 from countermarch.field import dot
 from countermarch.limits import MAX_BEATS, MAX_FUEL, PRIME
@@ -13,26 +12,10 @@ from countermarch.sweeps import forward, reverse
 from countermarch.tapes import TapeMachine
 from countermarch.words import read_program
 from oracle import TapeOracle, oracle_forward, oracle_reverse, sweep
-from programs import random_program, random_row
+from programs import EVERY_SORT, random_case, random_row
 from tape_text import read_tape_body
 
 LAST = PRIME - 1
-FUELS = (MAX_FUEL, 300, 12, 3, 0, 40, -5, 10 ** 9)
-EVERY_SORT = (
-    "(state x) (state y) (state k1) (state v 4) (param k) (param w 2)"
-    "(procedure f (n) ((p) (q 4)) (let z (mul p k) (set (at q n) (add z (at q (minus 3 n)))) (set p (div z (at w 1)))))"
-    "(procedure g (n) ((p)) (set p (add p (at w 0))) (if (less 0 n) ((call g ((minus n 1)) (p))) ()))"
-    "(beat (loop i (plus beat 2) (call f (i) (x v)) (if (zero (sub (at v i) y)) ((set y (mul y y))) ((set y (add y 1)))))"
-    " (let z (add (mul x y) (div (at v 0) k)) (set (at v 3) z) (call g (2) (z)) (set x (sub z (at v 1))))"
-    " (if (not (zero 0)) () ((set k1 (mul k1 7)))))"
-)
-
-
-def random_case(seed):
-    """A random tree with rows, a beat and fuel."""
-    tree = random_program(seed)
-    params, state = random_row(seed, cells(tree[1])), random_row(seed + 1, cells(tree[0]))
-    return tree, params, state, seed % MAX_BEATS, FUELS[seed % len(FUELS)]
 
 
 class SweepCase(unittest.TestCase):
